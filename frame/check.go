@@ -19,6 +19,14 @@ func checkBytes(s string, check int) string {
 	return xorByte(s)
 }
 
+// checkLength is for checks that isCheck allows.
+func checkLength(check int) int {
+	if check == api.Cyclic {
+		return 2
+	}
+	return 1
+}
+
 func xorByte(s string) string {
 	sum := byte(0)
 	for i := 0; i < len(s); i++ {

@@ -82,27 +82,9 @@ func TestEncodeExamples(t *testing.T) {
 }
 
 func TestEncodeEveryShape(t *testing.T) {
-	heads := []string{"", "H", "\xff", "\x00\x7f", "12345678"}
-	plain := []string{"", "A", "BC", "\xff\x00", strings.Repeat("z", 32)}
-	coded := []string{"", "A", "\x10", "\x10\x10", "\x10\x03", "\x1f\x10", "\x16\x16\x02", strings.Repeat("\x10", 32)}
-	for _, head := range heads {
-		for count := 1; count <= 4; count++ {
-			for shape := 0; shape < 4; shape++ {
-				b := api.Block{Head: head, Clear: shape&1 != 0, Last: shape&2 != 0}
-				texts := plain
-				if b.Clear {
-					texts = coded
-				}
-				for first := range texts {
-					b.Parts = nil
-					for i := 0; i < count; i++ {
-						b.Parts = append(b.Parts, texts[(first+i)%len(texts)])
-					}
-					for _, check := range checks {
-						wantEncoded(t, b, check, encodeByDocument(b, check))
-					}
-				}
-			}
+	for _, b := range everyShape() {
+		for _, check := range checks {
+			wantEncoded(t, b, check, encodeByDocument(b, check))
 		}
 	}
 }

@@ -34,11 +34,26 @@ func Encode(b api.Block, check int) (string, api.Errno) {
 }
 
 // Read tells what is heard of some bytes (P6).
-func Read(s string, check int) (api.Heard, api.Errno) { return api.Heard{}, api.OK }
+func Read(s string, check int) (api.Heard, api.Errno) {
+	if !isCheck(check) {
+		return api.Heard{}, api.ErrCheck
+	}
+	rest := behindSyns(s)
+	if beginsBlock(rest) {
+		return heardBlock(rest, check), api.OK
+	}
+	return api.Heard{Kind: shortKind(rest)}, api.OK
+}
 
 func transmission(body string) string {
 	out := []byte{api.SYN, api.SYN}
-	out = append(out, body...)
+	rest := padded(body)
+	out = append(out, rest...)
+	return string(out)
+}
+
+func padded(body string) string {
+	out := []byte(body)
 	out = append(out, api.PAD)
 	return string(out)
 }

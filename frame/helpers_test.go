@@ -35,3 +35,30 @@ func everyByte() string {
 	}
 	return string(b)
 }
+
+// everyShape: blocks with and without a head, with one to four parts, with all
+// marks, and with the texts that are hard to tell from what stands around them.
+func everyShape() []api.Block {
+	heads := []string{"", "H", "\xff", "\x00\x7f", "12345678"}
+	plain := []string{"", "A", "BC", "\xff\x00", strings.Repeat("z", 32)}
+	coded := []string{"", "A", "\x10", "\x10\x10", "\x10\x03", "\x1f\x10", "\x16\x16\x02", strings.Repeat("\x10", 32)}
+	var all []api.Block
+	for _, head := range heads {
+		for count := 1; count <= 4; count++ {
+			for shape := 0; shape < 4; shape++ {
+				texts := plain
+				if shape&1 != 0 {
+					texts = coded
+				}
+				for first := range texts {
+					b := api.Block{Head: head, Clear: shape&1 != 0, Last: shape&2 != 0}
+					for i := 0; i < count; i++ {
+						b.Parts = append(b.Parts, texts[(first+i)%len(texts)])
+					}
+					all = append(all, b)
+				}
+			}
+		}
+	}
+	return all
+}
