@@ -1,47 +1,25 @@
 package frame
 
-import "duplex/api"
+import (
+	"duplex/api"
+	"duplex/chars"
+)
 
 // blockError tells why a block may not be sent. The order of the tests is the
 // order in which P5 names the errors.
 func blockError(b api.Block) api.Errno {
-	if !isHead(b.Head) {
+	if !chars.IsHead(b.Head) {
 		return api.ErrHead
 	}
 	if len(b.Parts) < 1 || len(b.Parts) > api.MaxParts {
 		return api.ErrParts
 	}
 	for i := 0; i < len(b.Parts); i++ {
-		if !isPart(b.Parts[i], b.Clear) {
+		if !chars.IsText(b.Parts[i], api.MaxPart, b.Clear) {
 			return api.ErrText
 		}
 	}
 	return api.OK
-}
-
-func isHead(head string) bool {
-	return len(head) <= api.MaxHead && !hasControl(head)
-}
-
-func isPart(part string, anyByte bool) bool {
-	return len(part) <= api.MaxPart && (anyByte || !hasControl(part))
-}
-
-func hasControl(s string) bool {
-	for i := 0; i < len(s); i++ {
-		if isControl(s[i]) {
-			return true
-		}
-	}
-	return false
-}
-
-func isControl(c byte) bool {
-	switch c {
-	case api.SOH, api.STX, api.ETX, api.EOT, api.ENQ, api.DLE, api.NAK, api.SYN, api.ETB, api.ITB:
-		return true
-	}
-	return false
 }
 
 // blockBody is for blocks in which blockError finds nothing, and for checks

@@ -1,6 +1,9 @@
 package frame
 
-import "duplex/api"
+import (
+	"duplex/api"
+	"duplex/chars"
+)
 
 // behindSyns answers what follows the first two SYN that stand one behind the
 // other, and all further SYN behind those.
@@ -85,7 +88,7 @@ func foundHead(rest string) string {
 		return ""
 	}
 	to := 1
-	for to < len(rest) && !isControl(rest[to]) {
+	for to < len(rest) && !chars.IsControl(rest[to]) {
 		to++
 	}
 	return rest[1:to]
@@ -114,7 +117,7 @@ func foundPart(rest string, at int, anyByte bool) (string, byte, int) {
 			if c != api.DLE {
 				return string(text), c, at
 			}
-		} else if !anyByte && isControl(c) {
+		} else if !anyByte && chars.IsControl(c) {
 			return string(text), c, at
 		}
 		text = append(text, c)
