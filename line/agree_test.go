@@ -65,10 +65,25 @@ func (p *pair) setOnLine(st int, s string) {
 	p.d.s[st].onLine = s
 }
 
-func (p *pair) setBusy(st int, on bool) {
-	p.done = append(p.done, fmt.Sprintf("busy of %d: %v", st, on))
-	line.SetBusy(p.x, st, on)
-	p.d.s[st].busy = on
+func (p *pair) busy(st int, on bool) {
+	p.t.Helper()
+	p.done = append(p.done, fmt.Sprintf("Busy(%d, %v)", st, on))
+	e := p.x.Busy(st, on)
+	if want := p.d.busy(st, on); e != want {
+		p.wrong("P14: Busy = %d, want %d", e, want)
+	}
+	p.compare()
+}
+
+func (p *pair) fault(kind, place, value int) api.Errno {
+	p.t.Helper()
+	p.done = append(p.done, fmt.Sprintf("Fault(%d, %d, %d)", kind, place, value))
+	e := p.x.Fault(kind, place, value)
+	if want := p.d.fault(kind, place, value); e != want {
+		p.wrong("P15: Fault = %d, want %d", e, want)
+	}
+	p.compare()
+	return e
 }
 
 func (p *pair) compare() {
@@ -191,8 +206,9 @@ func drawnTransmission(r *rand.Rand, s string, check int) string {
 	return other
 }
 
-// P10 to P12 whole: lost, torn and wrong transmissions, busy stations.
-func TestDrawnLinesWithFaults(t *testing.T) {
+// P10 to P12 whole: lost, torn and wrong transmissions, busy stations, and what
+// no fault could make one hear.
+func TestDrawnLinesWithWrongTransmissions(t *testing.T) {
 	r := rand.New(rand.NewSource(10))
 	seen := map[string]int{}
 	for round := range 1500 {
@@ -211,12 +227,64 @@ func TestDrawnLinesWithFaults(t *testing.T) {
 				p.setOnLine(st, drawnTransmission(r, p.x.OnLine(st), p.d.conf.Check))
 			}
 			if r.Intn(2*often) == 0 {
-				p.setBusy(r.Intn(2), r.Intn(3) == 0)
+				p.busy(r.Intn(2), r.Intn(3) == 0)
 			}
 			p.tick()
 		}
 	}
 	wantSeen(t, seen)
+}
+
+// drawnNumber is near what is named, far from it, or just beside great numbers.
+func drawnNumber(r *rand.Rand, least, most int) int {
+	switch r.Intn(12) {
+	case 0:
+		return least - 1
+	case 1:
+		return most + 1
+	case 2:
+		return least
+	case 3:
+		return most
+	case 4:
+		return noStations[r.Intn(len(noStations))]
+	case 5:
+		return int(r.Uint64())
+	}
+	return least + r.Intn(most-least+1)
+}
+
+// Faults and busy stations alone, by the calls that the program has for them.
+func TestDrawnLinesWithFaults(t *testing.T) {
+	r := rand.New(rand.NewSource(15))
+	answers := map[[2]int]int{}
+	for round := range 1500 {
+		p := newPair(t, drawnConfig(r))
+		if round%2 == 0 {
+			p = newPair(t, small)
+		}
+		often := 1 + r.Intn(30)
+		for range 300 {
+			if r.Intn(12) == 0 {
+				p.submit(r.Intn(2), drawnMessage(r))
+			}
+			for r.Intn(often+1) == 0 {
+				long := len(p.x.OnLine(0)) + len(p.x.OnLine(1))
+				kind := drawnNumber(r, 0, 3)
+				e := p.fault(kind, drawnNumber(r, 0, long), drawnNumber(r, 0, 255))
+				answers[[2]int{kind, int(e)}]++
+			}
+			if r.Intn(2*often) == 0 {
+				p.busy(drawnNumber(r, 0, 1), r.Intn(3) == 0)
+			}
+			p.tick()
+		}
+	}
+	for _, want := range [][2]int{{0, 0}, {1, 0}, {2, 0}, {3, 0}, {0, 9}, {1, 9}, {2, 9}, {3, 9}, {1, 10}, {2, 10}, {3, 10}, {-1, 9}, {-1, 10}, {4, 9}, {4, 10}} {
+		if answers[want] == 0 {
+			t.Errorf("a fault of kind %d was never answered %d", want[0], want[1])
+		}
+	}
 }
 
 // wantSeen tells which of the rules of P10 to P12 were never followed.

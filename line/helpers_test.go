@@ -108,6 +108,55 @@ func wantMode(t *testing.T, x *line.Line, st, want int) {
 	}
 }
 
+// makeBusy makes a station busy, or no longer, and tells if anything else that
+// can be seen is changed by that.
+func makeBusy(t *testing.T, x *line.Line, st int, on bool) {
+	t.Helper()
+	want := [2]api.View{x.Look(0), x.Look(1)}
+	want[st].Busy = on
+	onLine := [2]string{x.OnLine(0), x.OnLine(1)}
+	if e := x.Busy(st, on); e != api.OK {
+		t.Fatalf("P14: Busy(%d, %v) = %d", st, on, e)
+	}
+	if got := [2]api.View{x.Look(0), x.Look(1)}; got != want {
+		t.Fatalf("P14: behind Busy(%d, %v) the stations are %+v, want %+v", st, on, got, want)
+	}
+	if got := [2]string{x.OnLine(0), x.OnLine(1)}; got != onLine {
+		t.Fatalf("P14: behind Busy(%d, %v) % x is on the line, want % x", st, on, got, onLine)
+	}
+}
+
+// fault tells if a fault is not answered as wanted, or if a refused one changes
+// what can be seen.
+func fault(t *testing.T, x *line.Line, kind, place, value int, want api.Errno) {
+	t.Helper()
+	views := [2]api.View{x.Look(0), x.Look(1)}
+	onLine := [2]string{x.OnLine(0), x.OnLine(1)}
+	if e := x.Fault(kind, place, value); e != want {
+		t.Fatalf("P15: Fault(%d, %d, %d) at % x = %d, want %d", kind, place, value, onLine, e, want)
+	}
+	if got := [2]api.View{x.Look(0), x.Look(1)}; got != views {
+		t.Fatalf("P15: behind Fault(%d, %d, %d) the stations are %+v, want %+v", kind, place, value, got, views)
+	}
+	if got := [2]string{x.OnLine(0), x.OnLine(1)}; want != api.OK && got != onLine {
+		t.Fatalf("P1: Fault(%d, %d, %d) is refused, and % x has become % x", kind, place, value, onLine, got)
+	}
+}
+
+func lose(t *testing.T, x *line.Line) {
+	t.Helper()
+	fault(t, x, api.Lose, 0, 0, api.OK)
+}
+
+// becomes makes what is on the line into other bytes, by noise and a cut.
+func becomes(t *testing.T, x *line.Line, s string) {
+	t.Helper()
+	for i := range len(s) {
+		fault(t, x, api.Noise, i, int(s[i]), api.OK)
+	}
+	fault(t, x, api.Cut, len(s), 0, api.OK)
+}
+
 func delivered(st int, m api.Message) api.Event {
 	return api.Event{Kind: api.Delivered, Station: st, Message: m}
 }

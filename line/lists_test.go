@@ -50,12 +50,16 @@ func TestLinesDoNotTouch(t *testing.T) {
 		pairs := []*pair{newPair(t, conf), newPair(t, conf), newPair(t, drawnConfig(r)), newPair(t, small)}
 		for range 2000 {
 			p := pairs[r.Intn(len(pairs))]
-			switch r.Intn(6) {
+			switch r.Intn(8) {
 			case 0:
 				p.submit(r.Intn(2), drawnMessage(r))
 			case 1:
 				st := r.Intn(2)
 				p.setOnLine(st, drawnTransmission(r, p.x.OnLine(st), p.d.conf.Check))
+			case 2:
+				p.fault(r.Intn(4), r.Intn(6), r.Intn(256))
+			case 3:
+				p.busy(r.Intn(2), r.Intn(3) == 0)
 			default:
 				spoil(p.tick())
 			}
@@ -92,6 +96,10 @@ func TestRefusedChangesNothing(t *testing.T) {
 			for range r.Intn(3) {
 				p.submit(r.Intn(2), wrongMessage(r))
 				p.submit(noStations[r.Intn(len(noStations))], drawnMessage(r))
+				p.busy(noStations[r.Intn(len(noStations))], r.Intn(2) == 0)
+				p.fault(4+r.Intn(3), 0, 1)
+				p.fault(1+r.Intn(3), -1-r.Intn(3), 1)
+				p.fault(2+r.Intn(2), 0, 256+r.Intn(3))
 				line.New(api.Config{Check: r.Intn(3), Size: r.Intn(100), Tries: r.Intn(9)})
 				p.x.OnLine(int(r.Uint64()))
 				p.x.Look(int(r.Uint64()))

@@ -3,13 +3,14 @@ package line_test
 import (
 	"encoding/hex"
 	"fmt"
+	"slices"
 	"strings"
 
 	"duplex/api"
 	"duplex/frame"
 )
 
-// docLine is a line that follows the words of P8 to P12 one by one: it keeps
+// docLine is a line that follows the words of P8 to P15 one by one: it keeps
 // the ticks in which things fall due, and all blocks of a message beforehand,
 // where the program counts down and cuts each block when it is put.
 type docLine struct {
@@ -64,6 +65,48 @@ func (d *docLine) submit(st int, m api.Message) (int, api.Errno) {
 	s.joined++
 	s.queue = append(s.queue, docMessage{s.joined, m})
 	return s.joined, api.OK
+}
+
+func (d *docLine) busy(st int, on bool) api.Errno {
+	if st != 0 && st != 1 {
+		return api.ErrStation
+	}
+	d.s[st].busy = on
+	return api.OK
+}
+
+func (d *docLine) fault(kind, place, value int) api.Errno {
+	if (d.s[0].onLine == "") == (d.s[1].onLine == "") {
+		return api.ErrLine
+	}
+	s := &d.s[0]
+	if s.onLine == "" {
+		s = &d.s[1]
+	}
+	left, ok := faultByDocument(s.onLine, kind, place, value)
+	if !ok {
+		return api.ErrFault
+	}
+	s.onLine = left
+	return api.OK
+}
+
+// faultByDocument has the numbers of the document, not the constants.
+func faultByDocument(s string, kind, place, value int) (string, bool) {
+	bytes := []byte(s)
+	n := len(bytes)
+	switch {
+	case kind == 0:
+		return "", true
+	case kind == 1 && place >= 0 && place <= n:
+		return string(bytes[:place]), true
+	case kind == 2 && place >= 0 && place < n && value >= 1 && value <= 255:
+		bytes[place] ^= byte(value)
+		return string(bytes), true
+	case kind == 3 && place >= 0 && place <= n && value >= 0 && value <= 255 && n < 320:
+		return string(slices.Insert(bytes, place, byte(value))), true
+	}
+	return "", false
 }
 
 func (d *docLine) tick() []api.Event {

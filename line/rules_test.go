@@ -263,7 +263,7 @@ func TestStationOneGivesWay(t *testing.T) {
 			if late {
 				p.silence(4, bidding)
 			}
-			line.SetBusy(p.x, 1, busy)
+			makeBusy(t, p.x, 1, busy)
 			if busy {
 				p.hears(bid, later, idle)
 			} else {
@@ -285,18 +285,18 @@ func TestStationOneGivesWay(t *testing.T) {
 func TestIdleAndBusy(t *testing.T) {
 	for st := range 2 {
 		p := tell(t, uneven, st)
-		line.SetBusy(p.x, st, true)
+		makeBusy(t, p.x, st, true)
 		p.hears(bid, later, idle)
 		p.hears(bid, later, idle)
 		p.hears(blockAB, "", idle)
-		line.SetBusy(p.x, st, false)
+		makeBusy(t, p.x, st, false)
 		p.hears(bid, yes0, receiving)
-		line.SetBusy(p.x, st, true)
+		makeBusy(t, p.x, st, true)
 		p.hears(blockAB, later, receiving)
 		p.hears(ask, later, receiving)
-		line.SetBusy(p.x, st, false)
+		makeBusy(t, p.x, st, false)
 		p.hears(ask, yes1, receiving)
-		line.SetBusy(p.x, st, true)
+		makeBusy(t, p.x, st, true)
 		p.hears("16 16 02", no, receiving)
 		p.hears(blockC, later, receiving, delivered(st, text("ABC")))
 		p.hears(bid, later, idle)
@@ -351,6 +351,34 @@ func TestSendingOnceMoreIsNotFree(t *testing.T) {
 	p.hears("", ask, sending) // free
 	p.silence(3, sending)
 	p.hears("", end, idle, failed(0, 1))
+}
+
+// What was free ahead of a new block is not free behind it.
+func TestNothingIsFreeForANewBlock(t *testing.T) {
+	for st := range 2 {
+		p := tell(t, uneven, st)
+		p.submits("ABC", "ABC")
+		p.hears("", bid, bidding)
+		p.hears(later, "", bidding)
+		p.hears(yes0, blockAB, sending)
+		for range 2 {
+			p.silence(3, sending)
+			p.hears("", ask, sending)
+		}
+		p.silence(3, sending)
+		p.hears("", end, idle, failed(st, 1))
+		p.silence(2, idle)
+		p.hears("", bid, bidding)
+		p.hears(yes0, blockAB, sending)
+		p.hears(later, "", sending)
+		p.hears(yes1, blockC, sending)
+		for range 2 {
+			p.silence(3, sending)
+			p.hears("", ask, sending)
+		}
+		p.silence(3, sending)
+		p.hears("", end, idle, failed(st, 2))
+	}
 }
 
 // Being put off is counted anew for each block, and not for each try.
@@ -434,9 +462,9 @@ func TestReceivingTooLong(t *testing.T) {
 	p.hears(full, no, receiving)
 	p.hears(block(t, api.Block{Parts: []string{long, long}}), yes0, receiving)
 	p.hears(block(t, api.Block{Parts: []string{"123456789"}, Last: true}), no, receiving)
-	line.SetBusy(p.x, 0, true)
+	makeBusy(t, p.x, 0, true)
 	p.hears(block(t, api.Block{Parts: []string{"1234", "56789"}, Last: true}), no, receiving)
-	line.SetBusy(p.x, 0, false)
+	makeBusy(t, p.x, 0, false)
 	p.hears(ask, yes0, receiving)
 	p.hears(block(t, api.Block{Parts: []string{"1234", "5678"}}), yes1, receiving)
 	p.silence(29, receiving)

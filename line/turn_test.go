@@ -4,7 +4,6 @@ import (
 	"testing"
 
 	"duplex/api"
-	"duplex/line"
 )
 
 const (
@@ -138,62 +137,4 @@ func TestNoSuchStation(t *testing.T) {
 		}
 	}
 	step(t, x, 2, [2]string{"", ""}, [2]int{bidding, bidding}, [2]int{1, 1})
-}
-
-// What the document's examples 10 to 12 say of P9 to P12.
-
-func TestExample10(t *testing.T) {
-	for _, askIsLost := range []bool{false, true} {
-		x := open(t, small)
-		submit(t, x, 0, text("ABC"), 1)
-		for range 4 {
-			x.Tick()
-		}
-		line.SetOnLine(x, 1, "")
-		tick(t, x, 5, "", "")
-		tick(t, x, 6, ask, "")
-		if !askIsLost {
-			tick(t, x, 7, "", yes1)
-			tick(t, x, 8, blockC, "")
-			continue
-		}
-		line.SetOnLine(x, 0, "")
-		tick(t, x, 7, "", "")
-		tick(t, x, 8, "", "")
-		step(t, x, 9, [2]string{end, ""}, [2]int{idle, receiving}, [2]int{0, 0}, failed(0, 1))
-		step(t, x, 10, [2]string{"", ""}, [2]int{idle, idle}, [2]int{0, 0})
-	}
-}
-
-func TestExample11(t *testing.T) {
-	x := open(t, small)
-	submit(t, x, 0, text("ABC"), 1)
-	for range 3 {
-		x.Tick()
-	}
-	line.SetBusy(x, 1, true)
-	tick(t, x, 4, "", later)
-	if !x.Look(1).Busy || x.Look(0).Busy {
-		t.Errorf("P13: station 1 is busy, and not station 0: %+v, %+v", x.Look(0), x.Look(1))
-	}
-	line.SetBusy(x, 1, false)
-	tick(t, x, 5, "", "")
-	tick(t, x, 6, "", "")
-	tick(t, x, 7, "", "")
-	tick(t, x, 8, ask, "")
-	tick(t, x, 9, "", yes1)
-	tick(t, x, 10, blockC, "")
-}
-
-func TestExample12(t *testing.T) {
-	x := open(t, small)
-	submit(t, x, 0, text("ABC"), 1)
-	for range 3 {
-		x.Tick()
-	}
-	line.SetOnLine(x, 0, raw(t, "16 16 02 40 42 17 16 ff"))
-	tick(t, x, 4, "", no)
-	tick(t, x, 5, blockAB, "")
-	tick(t, x, 6, "", yes1)
-	tick(t, x, 7, blockC, "")
 }
